@@ -1,0 +1,1 @@
+"""Echofold: rows of letters priced against their own echoes."""
