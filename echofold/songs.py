@@ -1,7 +1,7 @@
 """Songs: a number of letters, a length and at most two echoes."""
 
 from echofold.basics import is_between, read_integer
-from echofold.errors import InvalidEcho, InvalidNumber, InvalidText, NoEcho, TooLong
+from echofold.errors import InvalidEcho, InvalidNumber, InvalidPlace, InvalidSong, InvalidText, NoEcho, TooFar, TooLong
 from echofold.tables import Table, check_letters, table_of_text
 
 MOST_ECHOES = 2
@@ -89,6 +89,30 @@ class Song:
     def __eq__(self, other):
         return (isinstance(other, Song) and self._letters == other._letters
                 and self._length == other._length and self._echoes == other._echoes)
+
+
+def check_song(song):
+    """Raise InvalidSong unless this is a song."""
+    if not isinstance(song, Song):
+        raise InvalidSong(song)
+
+
+def check_near(song):
+    """Raise InvalidSong unless this is a song, and TooFar unless it is near."""
+    check_song(song)
+    if not song.is_near:
+        raise TooFar(Song.NEAR)
+
+
+def is_place(song, value):
+    """Tell whether the value is a place of the song."""
+    return is_between(value, 0, song.length - 1)
+
+
+def check_place(song, place):
+    """Raise InvalidPlace unless this is a place of the song."""
+    if not is_place(song, place):
+        raise InvalidPlace(place)
 
 
 def is_echo(value, letters):

@@ -19,6 +19,10 @@ BARRED_NODES = (ast.Global, ast.AsyncFunctionDef, ast.AsyncFor, ast.AsyncWith, a
 BARRED_NAMES = {"register", "mro", "elements", "open", "input", "law", "version_info", "with_traceback", "add_note"}
 BARRED_WORDS = re.compile(r"\b(type|typing|enum|Enum|Flag|Generic|Protocol|ABC|namedtuple|NamedTuple)\b|dataclass|overload|_wall")
 
+METHODS = set("""append clear copy count endswith extend find get index insert isalnum isalpha isdigit islower isspace isupper
+    items join keys ljust lower lstrip partition pop remove replace reverse rfind rjust rpartition rsplit rstrip setdefault split
+    splitlines startswith strip update upper values zfill bit_length add discard __init__""".split())
+
 
 def definitions(tree):
     return [node for node in ast.walk(tree) if isinstance(node, (ast.FunctionDef, ast.ClassDef))]
@@ -81,6 +85,58 @@ class TestLanguage(unittest.TestCase):
             for name in bound_names(tree):
                 self.assertNotIn(name, BARRED_NAMES)
         self.each(check)
+
+    def test_methods_are_own_ones_or_those_of_the_subset(self):
+        trees = [ast.parse(path.read_text(encoding="utf-8")) for path in FILES]
+        own = {node.name for tree in trees for node in definitions(tree)}
+
+        def check(_, tree):
+            for node in ast.walk(tree):
+                if isinstance(node, ast.Call) and isinstance(node.func, ast.Attribute):
+                    self.assertIn(node.func.attr, METHODS | own)
+        self.each(check)
+
+    def test_stars_stand_before_names_and_attributes(self):
+        def check(_, tree):
+            for node in ast.walk(tree):
+                for argument in node.args if isinstance(node, ast.Call) else []:
+                    if isinstance(argument, ast.Starred):
+                        self.assertIsInstance(argument.value, (ast.Name, ast.Attribute))
+        self.each(check)
+
+    def test_no_file_imports_one_that_imports_it(self):
+        imports = {}
+
+        def check(_, tree):
+            modules = [node.module for node in tree.body if isinstance(node, ast.ImportFrom)]
+            imports[len(imports)] = {module.split(".")[-1] for module in modules}
+        self.each(check)
+        left = {path.stem: imports[at] for at, path in enumerate(FILES)}
+        while left:
+            free = [name for name, wanted in left.items() if not wanted & set(left)]
+            self.assertTrue(free, left)
+            left = {name: wanted for name, wanted in left.items() if name not in free}
+
+    def test_imported_names_are_defined_in_the_file_that_is_named(self):
+        trees = {f"echofold.{path.stem}": ast.parse(path.read_text(encoding="utf-8")) for path in FILES}
+
+        def check(_, tree):
+            for node in tree.body:
+                if isinstance(node, ast.ImportFrom) and node.module in trees:
+                    body = trees[node.module].body
+                    bound = [part.name for part in body if isinstance(part, (ast.FunctionDef, ast.ClassDef))]
+                    bound += [part.targets[0].id for part in body if isinstance(part, ast.Assign)]
+                    for alias in node.names:
+                        self.assertIn(alias.name, bound)
+                        self.assertIsNone(alias.asname)
+        self.each(check)
+
+    def test_no_function_has_the_name_of_a_generator(self):
+        trees = [ast.parse(path.read_text(encoding="utf-8")) for path in FILES]
+        made = [node for tree in trees for node in definitions(tree) if isinstance(node, ast.FunctionDef)]
+        for maker in made:
+            if any(isinstance(node, (ast.Yield, ast.YieldFrom)) for node in ast.walk(maker)):
+                self.assertEqual([node.name for node in made].count(maker.name), 1)
 
     def test_names(self):
         def check(text, tree):
