@@ -44,6 +44,11 @@ def nearest(song, row):
     return (found[1], found[2])
 
 
+def least_bound(found, added):
+    """Return the least price of all rows with these wishes, one for each place, or None; found are all strands."""
+    return record_bound(found, [best_entry(strand, added) for strand in found])
+
+
 def best_entry(strand, added):
     """Return the entry of the record that has the greatest bound."""
     start = added[strand.places[0]]

@@ -8,6 +8,10 @@ from echofold.tables import Table
 from tests.samples import made_rows
 
 
+# Orders in which forty places may be taken out of a song.
+ORDERS = [list(range(40)), list(range(39, -1, -1)), sorted(range(40), key=lambda place: (place % 3, place % 7, place))]
+
+
 def top(price):
     """A key by which None is greater than every integer."""
     return (price is None, 0 if price is None else price)
@@ -242,3 +246,17 @@ def made_wishes(song, seed):
         return {0: (None,) * song.letters}
     return {place: tuple(10 ** 70 + price * 10 ** 69 for price in (0, 3, 1, 2, 4)[:song.letters])
             for place in range(0, song.length, 3)}
+
+
+def made_fixed(song, seed):
+    """No fixed letters, ones at no, one, some and all places."""
+    def letter(place):
+        return (place * 3 + place // 2 + seed) % song.letters
+    kind = seed % 6
+    if kind < 2:
+        return (None, {})[kind]
+    if kind == 2:
+        return {song.length - 1: letter(0)}
+    if kind == 3:
+        return {place: letter(place) for place in range(song.length)}
+    return {place: letter(place) for place in range(song.length - 1, -1, 1 - kind)}

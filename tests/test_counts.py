@@ -8,29 +8,14 @@ from echofold.counts import count_by_price, row_count
 from echofold.errors import InvalidFixed, InvalidNumber, InvalidWishes
 from echofold.songs import Song
 from echofold.tables import Table
-from tests.reference import (all_rows, counts_of, fixed_as_wishes, great_songs, made_song, made_wishes, price_of, row_count_of,
-                             small_songs)
+from tests.reference import (ORDERS, all_rows, counts_of, fixed_as_wishes, great_songs, made_fixed, made_song, made_wishes,
+                             price_of, row_count_of, small_songs)
 from tests.samples import HUGE, CallCase, no_integers, wrong_fixed, wrong_wishes
 
 U = Table(((None, 0), (0, None)))
 C = Table(((0, 1), (2, 0)))
 BARS = Table([[None] * 2] * 2)
 SONGS = [Song(2, 5, (3, C), (3, U)), Song(2, 5, (2, C), (3, C)), Song(1, 1), Song(5, 2, (1, Table.silence(5)))]
-ORDERS = [list(range(40)), list(range(39, -1, -1)), sorted(range(40), key=lambda place: (place % 3, place % 7, place))]
-
-
-def made_fixed(song, seed):
-    """No fixed letters, ones at no, one, some and all places."""
-    def letter(place):
-        return (place * 3 + place // 2 + seed) % song.letters
-    kind = seed % 6
-    if kind < 2:
-        return (None, {})[kind]
-    if kind == 2:
-        return {song.length - 1: letter(0)}
-    if kind == 3:
-        return {place: letter(place) for place in range(song.length)}
-    return {place: letter(place) for place in range(song.length - 1, -1, 1 - kind)}
 
 
 class TestInterface(unittest.TestCase):

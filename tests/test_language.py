@@ -97,11 +97,15 @@ class TestLanguage(unittest.TestCase):
         self.each(check)
 
     def test_stars_stand_before_names_and_attributes(self):
+        trees = [ast.parse(path.read_text(encoding="utf-8")) for path in FILES]
+        decorated = {node.name for tree in trees for node in definitions(tree) if node.decorator_list}
+
         def check(_, tree):
             for node in ast.walk(tree):
                 for argument in node.args if isinstance(node, ast.Call) else []:
                     if isinstance(argument, ast.Starred):
                         self.assertIsInstance(argument.value, (ast.Name, ast.Attribute))
+                        self.assertNotIn(getattr(argument.value, "attr", ""), decorated)
         self.each(check)
 
     def test_no_file_imports_one_that_imports_it(self):
