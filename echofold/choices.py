@@ -6,7 +6,7 @@ from echofold.songs import check_near, check_place
 from echofold.strands import all_strands
 from echofold.tables import Table
 from echofold.ways import letters_allowed, ways_at
-from echofold.wishes import only, wished
+from echofold.wishes import wished, with_letter
 
 
 def letters_left(song, fixed=None):
@@ -25,7 +25,8 @@ def table_between(song, one, other, wishes=None):
     found = all_strands(song)
     added = wished(song, wishes)
     letters = range(song.letters)
-    return Table([[least_bound(found, pinned(added, one, a, other, b)) for b in letters] for a in letters])
+    firsts = [with_letter(added, one, a) for a in letters]
+    return Table([[least_bound(found, with_letter(begun, other, b)) for b in letters] for begun in firsts])
 
 
 def letters_met(song, allowed):
@@ -37,11 +38,3 @@ def letters_met(song, allowed):
 def letters_with_ways(ways):
     """Return the tuple of the letters that some row has."""
     return tuple([letter for letter, many in enumerate(ways) if many > 0])
-
-
-def pinned(added, one, first, other, second):
-    """Return the wishes with which only the first letter may stand at one place, only the second at the other one."""
-    taken = list(added)
-    taken[one] = only(taken[one], first)
-    taken[other] = only(taken[other], second)
-    return taken

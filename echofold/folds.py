@@ -35,7 +35,7 @@ def least_price(song):
     """Return the least price of all rows, or None."""
     check_song(song)
     parts = table_parts(song)
-    return total([sample_price(song, shape, first, parts) for shape, first in shape_samples(song)])
+    return total([price_of_many(song, shape, first, parts) for shape, first in shape_samples(song)])
 
 
 def count_rest(song, modulus):
@@ -48,7 +48,7 @@ def count_rest(song, modulus):
     whole = one
     for shape, first in shape_samples(song):
         ways = put_together(song, first, hop_count(shape), parts).ways
-        whole = whole * repeated(one, Rests([[sum(ends(shape, ways))]], modulus), shape[4])
+        whole = whole * repeated(one, Rests([[sum(ends(shape[0], ways))]], modulus), shape[4])
     return whole.ways[0][0]
 
 
@@ -66,16 +66,18 @@ def hop_count(shape):
     return shape[2] + shape[3]
 
 
-def ends(shape, rows):
+def ends(kind, rows):
     """Return the list of the entries for letters that may end such a strand: on a ring only the one it began with."""
-    if shape[0] == "ring":
+    if kind == "ring":
         return [row[letter] for letter, row in enumerate(rows)]
     return [entry for row in rows for entry in row]
 
 
-def sample_price(song, shape, first, parts):
-    """Return the least price of all strands of this shape, or None."""
-    lowest = least(ends(shape, put_together(song, first, hop_count(shape), parts).rows))
+def price_of_many(song, shape, first, parts):
+    """Return the least price of so many strands of a shape, of which one begins at this place, or None."""
+    if shape[4] == 0:
+        return 0
+    lowest = least(ends(shape[0], put_together(song, first, hop_count(shape), parts).rows))
     return None if lowest is None else lowest * shape[4]
 
 

@@ -6,7 +6,7 @@ from echofold.prices import check_row, check_wishes
 from echofold.songs import check_near
 from echofold.strands import Line, all_strands, inner_hops
 from echofold.tables import sums, turned_rows
-from echofold.wishes import only, unpriced, wished, wishes_against_changes
+from echofold.wishes import only, unpriced, wished, wishes_against_changes, with_letter
 
 
 def lightest(song, wishes=None):
@@ -46,7 +46,40 @@ def nearest(song, row):
 
 def least_bound(found, added):
     """Return the least price of all rows with these wishes, one for each place, or None; found are all strands."""
-    return record_bound(found, [best_entry(strand, added) for strand in found])
+    return total([strand_bound(strand, added) for strand in found])
+
+
+def strand_bound(strand, added):
+    """Return the least price of all letters along a strand, or None."""
+    return entry_bound(strand, best_entry(strand, added))
+
+
+def first_lightest(song, wishes):
+    """Return the tuple (price, row) of the least of the rows with the least price, or None; nothing is checked."""
+    found = all_strands(song)
+    added = wished(song, wishes)
+    price = least_bound(found, added)
+    if price is None:
+        return None
+    # The strands have no price in common: the row is the least one if it is so on each of them.
+    row = [0] * song.length
+    for strand in found:
+        for place, letter in first_letters(strand, added):
+            row[place] = letter
+    return (price, tuple(row))
+
+
+def first_letters(strand, added):
+    """Return the tuples (place, letter) of the least ones of the cheapest letters along a strand."""
+    best = strand_bound(strand, added)
+    taken = added
+    letters = []
+    for place in sorted(strand.places):
+        choices = [with_letter(taken, place, letter) for letter in range(len(added[place]))]
+        letter = [strand_bound(strand, choice) for choice in choices].index(best)
+        taken = choices[letter]
+        letters.append((place, letter))
+    return letters
 
 
 def best_entry(strand, added):
@@ -60,6 +93,9 @@ def best_entry(strand, added):
 
 def heights_from(strand, start, added):
     """Return the greatest heights of a strand that begin with these."""
+    if least(start) is None:
+        # What is barred at first stays barred, without a look at the hops.
+        return [start] * len(strand)
     heights = [start]
     for _, there, table in inner_hops(strand):
         heights.append(reached(heights[-1], table, added[there]))

@@ -5,7 +5,7 @@ from echofold.errors import Barred, InvalidNumber, NoRow
 from echofold.prices import check_fixed, check_row
 from echofold.songs import check_near
 from echofold.strands import all_strands
-from echofold.ways import begun_with, kept, letters_allowed, ways_at
+from echofold.ways import begun_with, kept, letters_allowed, row_total, ways_at
 
 
 def row_at(song, number, fixed=None):
@@ -77,7 +77,7 @@ def letter_with_number(number, ways):
 
 def is_allowed(found, allowed, row):
     """Tell whether the row is allowed and has allowed letters; found are all strands."""
-    return sum(ways_at(found, begun_with(allowed, row), 0)) > 0
+    return row_total(found, begun_with(allowed, row)) > 0
 
 
 def ways_below(found, allowed, row, place):

@@ -17,9 +17,7 @@ def is_row(song, value):
 def is_wishes(song, value):
     """Tell whether the value is wishes of a near song."""
     check_near(song)
-    if not isinstance(value, dict):
-        return False
-    return all([is_place(song, place) and is_wish(song, wish) for place, wish in value.items()])
+    return are_wishes(song, value)
 
 
 def is_fixed(song, value):
@@ -60,6 +58,13 @@ def check_fixed(song, fixed):
     """Raise InvalidFixed unless these are fixed letters of a near song, or None for none."""
     if fixed is not None and not is_fixed(song, fixed):
         raise InvalidFixed(fixed)
+
+
+def are_wishes(song, value):
+    """Tell whether the value is wishes of a song of any length."""
+    if not isinstance(value, dict):
+        return False
+    return all([is_place(song, place) and is_wish(song, wish) for place, wish in value.items()])
 
 
 def is_wish(song, value):

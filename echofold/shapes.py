@@ -70,8 +70,11 @@ def line_shape(song, first):
 def ring_samples(song):
     """Return a list with the tuple (shape, first) of the rings, if there are any."""
     many = ring_count(song)
-    if many == 0:
-        return []
+    return [] if many == 0 else [(ring_shape(song) + (many,), 0)]
+
+
+def ring_shape(song):
+    """Return the tuple (kind, places, on, back) of all rings."""
     on, back = song.delays
     part = gcd(on, back)
-    return [(("ring", (on + back) // part, back // part, on // part, many), 0)]
+    return ("ring", (on + back) // part, back // part, on // part)

@@ -1,6 +1,6 @@
 """Tables: a price for each pair of letters, and what can be made of them."""
 
-from echofold.basics import is_between, is_price, is_price_text, least, price_text, read_price, total
+from echofold.basics import is_between, is_price, is_price_text, least, price_text, read_price
 from echofold.errors import InvalidNumber, InvalidTable, InvalidText, OtherLetters
 
 
@@ -142,7 +142,7 @@ def are_prices(value, many):
 
 def sums(prices, others):
     """Return the list of the sums of the prices that stand at the same index."""
-    return [total([one, other]) for one, other in zip(prices, others)]
+    return [None if one is None or other is None else one + other for one, other in zip(prices, others)]
 
 
 def lesser_ones(prices, others):

@@ -5,6 +5,7 @@ Which letters may stand at a place is a list with 1 for each letter that may, an
 
 from echofold.strands import Line
 from echofold.tables import turned_rows
+from echofold.wishes import wished
 
 
 def letters_allowed(song, fixed):
@@ -22,6 +23,16 @@ def kept(marks, letter):
 def begun_with(allowed, row):
     """Return which letters may stand at each place if the first places have the letters of this row."""
     return [kept(marks, letter) for marks, letter in zip(allowed, row)] + allowed[len(row):]
+
+
+def letters_not_barred(song, wishes):
+    """Return for each place which letters may stand there: all but those whose wish is None."""
+    return [[0 if worth is None else 1 for worth in wish] for wish in wished(song, wishes)]
+
+
+def row_total(found, allowed):
+    """Return the number of the rows; found are all strands."""
+    return sum(ways_at(found, allowed, 0))
 
 
 def ways_at(found, allowed, place):

@@ -15,6 +15,11 @@ def only(wish, letter):
     return tuple([worth if a == letter else None for a, worth in enumerate(wish)])
 
 
+def with_letter(added, place, letter):
+    """Return the wishes, one for each place, in which all letters but this one are barred at this place."""
+    return added[:place] + [only(added[place], letter)] + added[place + 1:]
+
+
 def wishes_for_letters(song, fixed):
     """Return the wishes that bar all letters but the fixed ones."""
     given = {} if fixed is None else fixed

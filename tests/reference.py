@@ -260,3 +260,17 @@ def made_fixed(song, seed):
     if kind == 3:
         return {place: letter(place) for place in range(song.length)}
     return {place: letter(place) for place in range(song.length - 1, -1, 1 - kind)}
+
+
+def composed(one, other):
+    """Rows composed, entry by entry."""
+    letters = range(len(one))
+    return tuple(tuple(least_of([sum_of(one[a][c], other[c][b]) for c in letters]) for b in letters) for a in letters)
+
+
+def likeness(letters):
+    return tuple(tuple(0 if a == b else None for b in range(letters)) for a in range(letters))
+
+
+def times(price, many):
+    return None if price is None else price * many

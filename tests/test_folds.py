@@ -10,11 +10,10 @@ from echofold.folds import count_rest, least_price, shape_tables
 from echofold.lightest import lightest
 from echofold.shapes import shapes
 from echofold.songs import Song
-from echofold.strands import strands
 from echofold.tables import Table
 from tests.far import FAR, GOLDEN, far_made_songs, far_measures, folded_strands, multiplied, multiples
-from tests.reference import (ORDERS, all_rows, great_songs, least_of, least_price_of, made_song, price_of, row_count_of, small_songs,
-                             strands_of, sum_of)
+from tests.reference import (ORDERS, all_rows, composed, great_songs, least_of, least_price_of, likeness, made_song, price_of,
+                             row_count_of, small_songs, strands_of, sum_of, times)
 from tests.samples import HUGE, SIXTY, CallCase, no_integers
 
 U = Table(((None, 0), (0, None)))
@@ -22,16 +21,6 @@ C = Table(((0, 1), (2, 0)))
 BARS = Table([[None] * 2] * 2)
 MOST = 10 ** 9
 MODULI = (2, 3, 97, MOST - 63, MOST)
-
-
-def composed(one, other):
-    """Rows composed, entry by entry."""
-    letters = range(len(one))
-    return tuple(tuple(least_of([sum_of(one[a][c], other[c][b]) for c in letters]) for b in letters) for a in letters)
-
-
-def likeness(letters):
-    return tuple(tuple(0 if a == b else None for b in range(letters)) for a in range(letters))
 
 
 def counted(modulus):
@@ -62,10 +51,6 @@ def tables_walked(song):
 def lowest(kind, rows):
     letters = range(len(rows))
     return least_of([rows[a][b] for a in letters for b in letters if kind == "line" or a == b])
-
-
-def times(price, many):
-    return None if price is None else price * many
 
 
 def hop_rows(song):

@@ -9,7 +9,7 @@ from echofold.shapes import place_at, shapes, strand_of
 from echofold.songs import Song
 from echofold.strands import next_place, place_before, strand_at, strands
 from echofold.tables import Table
-from tests.far import FAR, GOLDEN, far_made_songs, far_measures, folded_strands, multiplied, multiples
+from tests.far import FAR, GOLDEN, far_measures, folded_strands, multiplied, multiples
 from tests.reference import great_songs, strands_of
 from tests.samples import HUGE, CallCase, no_integers
 
