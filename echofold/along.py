@@ -40,7 +40,10 @@ def wished_spots(song, wishes):
     found = {}
     for place in wishes:
         kind, first, spot = strand_of(song, place)
-        found.setdefault((kind, first), {})[spot] = place
+        strand = (kind, first)
+        if strand not in found:
+            found[strand] = {}
+        found[strand][spot] = place
     return found
 
 

@@ -47,9 +47,8 @@ def order_of(line):
     """Return the tuple of the first word and what the words behind it say, or None for a value that is no such line."""
     if not isinstance(line, str):
         return None
+    # An empty word is none of those below, no number, no price and no part of a table.
     words = line.split(" ")
-    if "" in words:
-        return None
     word = words[0]
     behind = words[1:]
     if word == "echo":
@@ -69,7 +68,7 @@ def number_order(word, behind):
 
 def echo_order(behind):
     """Return the order of one more echo, or None."""
-    delay = read_integer(behind[0]) if len(behind) > 1 else None
+    delay = read_integer(behind[0]) if len(behind) > 0 else None
     table = table_of_text(" ".join(behind[1:]))
     return None if delay is None or table is None else ("echo", delay, table)
 

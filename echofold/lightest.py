@@ -75,7 +75,7 @@ def first_letters(strand, added):
     taken = added
     letters = []
     for place in sorted(strand.places):
-        choices = [with_letter(taken, place, letter) for letter in range(len(added[place]))]
+        choices = [with_letter(taken, place, a) for a in range(len(added[place]))]
         letter = [strand_bound(strand, choice) for choice in choices].index(best)
         taken = choices[letter]
         letters.append((place, letter))
